@@ -1,0 +1,1 @@
+"""Pricespin: prices that follow prices, by written rules and in any order."""

@@ -1,0 +1,139 @@
+"""Values that several test files use."""
+
+import copy
+
+GREAT = 10 ** 30
+
+
+def price(shop=0, add=0):
+    return ("price", shop, add)
+
+
+def plain(number=0):
+    return ("plain", number)
+
+
+def least(*parts):
+    return ("least", parts)
+
+
+def most(*parts):
+    return ("most", parts)
+
+
+def rank(k, *parts):
+    return ("rank", k, parts)
+
+
+def nested(levels):
+    """A term with as many levels, and as many terms in it."""
+    term = price()
+    for _ in range(levels - 1):
+        term = least(term)
+    return term
+
+
+def wide(many):
+    """A term with as many terms in it, 2 to 43, at 3 levels."""
+    parts = []
+    while many > 1:
+        size = min(7, many - 1)
+        parts.append(least(*[price(shop) for shop in range(size - 1)]) if size > 1 else plain(7))
+        many -= size
+    return most(*parts)
+
+
+def deep_tuple(levels):
+    value = None
+    for _ in range(levels):
+        value = (value,)
+    return value
+
+
+def deep_term(levels):
+    """A value that has the form of a term at each of its many levels."""
+    value = price()
+    for level in range(levels):
+        value = (rank(1, value), least(value), most(value))[level % 3]
+    return value
+
+
+TERMS = [
+    price(), price(5, GREAT), price(3, -GREAT), price(1, 1), plain(), plain(GREAT), plain(-GREAT),
+    least(plain()), most(price(2)), rank(1, price(4)), least(price(1, -1), most(price(2, 5), plain(100))),
+    rank(2, price(), price(1), price(2)), rank(6, *[price(shop, -shop) for shop in range(6)]),
+    least(*[plain(n) for n in range(6)]), most(*[price(shop) for shop in (5, 3, 3, 0, 5, 1)]),
+    nested(2), nested(6), wide(8), wide(40), rank(3, least(price(), price()), rank(1, plain(-1)), most(plain(2))),
+]
+
+# What may stand in the place of anything, and is right in few of them.
+ODD_VALUES = [
+    None, True, False, 6, -1, GREAT + 1, -GREAT - 1, 10 ** 199, "", "a", "price", "x" * 2000, (), [], {},
+    [0], {"price": 0},
+    ("price",), ("price", 0, 0), [("price", 0, 0)], (("price", 0, 0),), {0: ("plain", 1)}, (0,) * 1100, [0] * 1100,
+    deep_tuple(50), [deep_tuple(49)], deep_term(24), [[[None] * 50] * 50],
+]
+
+NO_TERMS = [
+    None, True, False, 0, -3, 10 ** 199, "", "price", "least(a, b)", (), (0,), [], {}, {"price": 0}, b"price",
+    # the whole is a list or a dict
+    ["price", 0, 0], ["plain", 0], ["least", (plain(),)], {"price": (0, 0)}, [price()], (price(),),
+    # the word
+    ("Price", 0, 0), ("", 0, 0), (None, 0, 0), (True, 0, 0), (0, 0, 0), (["price"], 0, 0), (("price",), 0, 0),
+    ({"price": 1}, 0, 0), ("number", 1), ("lea", (plain(),)), ("max", (plain(),)), (None, 1), (["least"], (plain(),)),
+    ({}, 1, (plain(),)), (False, (plain(),)), ("greatest", (plain(),)), ("a", 0), ("price" + " ", 0, 0),
+    # the length
+    ("price",), ("price", 0), ("price", 0, 0, 0), ("plain",), ("plain", 0, 0), ("least",), ("least", (plain(),), 0),
+    ("least", plain(), plain()), ("most",), ("most", (plain(),), (plain(),)), ("rank",), ("rank", 1),
+    ("rank", (plain(),)), ("rank", 1, (plain(),), 0), ("least", 1, (plain(),)), ("price", 0, 0) * 366,
+    # the shop
+    price(6), price(-1), price(10 ** 199), price(None), price(True), price(False), price("0"), price("a"), price((0,)),
+    price([0]), price({}),
+    # add and number
+    price(0, GREAT + 1), price(0, -GREAT - 1), price(0, 10 ** 199), price(0, -10 ** 199), price(0, None),
+    price(0, True), price(0, False), price(0, "1"), price(0, (1,)), price(0, [1]), price(0, {1: 1}),
+    plain(GREAT + 1), plain(-GREAT - 1), plain(10 ** 199), plain(-10 ** 199), plain(None), plain(True), plain(False),
+    plain("1"), plain((1,)), plain([1]), plain({1: 1}), plain(plain(1)),
+    # the parts
+    ("least", ()), ("most", ()), ("rank", 1, ()), ("rank", 0, ()), least(*[plain()] * 7), most(*[plain()] * 7),
+    rank(1, *[plain()] * 7), rank(7, *[plain()] * 7), least(*[plain()] * 1100), ("least", [plain()]),
+    ("most", [plain(), price()]),
+    ("rank", 1, [plain()]), ("least", None), ("least", True), ("least", 1), ("least", "a"), ("least", {}),
+    ("least", {plain(): plain()}), ("least", plain()), ("rank", 1, plain()), ("rank", 1, "abc"), ("rank", 1, None),
+    # k
+    rank(0, plain()), rank(-1, plain()), rank(2, plain()), rank(4, plain(), plain(), plain()), rank(10 ** 199, plain()),
+    rank(None, plain()), rank(True, plain()), rank(False, plain()), rank("1", plain()), rank((1,), plain()),
+    rank([1], plain()), rank({}, plain()),
+    # one part
+    least(None), least(True), least(1), least("a"), least([]), least({}), least(()), least(plain(), None),
+    most(price(), False), rank(1, plain(), 0), rank(1, "price"), least(["plain", 0]), least(plain(), least(price(6))),
+    most(least(plain(True))), rank(2, plain(), rank(2, plain())), least(plain(), most(least(rank(1, ["plain", 1])))),
+    # terms and levels
+    wide(41), wide(42), nested(7), nested(8), least(plain(), nested(6)), rank(1, nested(6)), most(nested(6), plain()),
+    least(*[most(*[least(*[plain()] * 6)] * 6)] * 6), deep_term(6), deep_term(24), deep_tuple(50),
+]
+
+
+def replaced(value):
+    """Each value that comes of the term by an odd one in the place of one of its items, at any level."""
+    if not isinstance(value, tuple):
+        return
+    for at, item in enumerate(value):
+        for odd in ODD_VALUES:
+            yield value[:at] + (odd,) + value[at + 1:]
+        for other in replaced(item):
+            yield value[:at] + (other,) + value[at + 1:]
+    for odd in ODD_VALUES:
+        yield value + (odd,)
+    yield value[:-1]
+    yield list(value)
+
+
+def kept(case, function, *arguments):
+    """What the function returns or raises, and that it leaves its arguments as they are."""
+    before = copy.deepcopy(arguments)
+    try:
+        return function(*arguments)
+    finally:
+        case.assertEqual(arguments, before)
+        case.assertEqual(repr(arguments), repr(before))
