@@ -3,7 +3,7 @@
 from pricespin.errors import InvalidPrices, InvalidTerm
 
 _GREATEST_NUMBER = 10 ** 30
-_MOST_SHOPS = 6
+MOST_SHOPS = 6
 _MOST_PARTS = 6
 _MOST_TERMS = 40
 _MOST_LEVELS = 6
@@ -24,6 +24,11 @@ def is_number(value):
     return is_int_from(value, -_GREATEST_NUMBER, _GREATEST_NUMBER)
 
 
+def is_int_list(value, fewest, greatest):
+    """Whether the value is a list of integers, of as few and as many as told."""
+    return isinstance(value, list) and fewest <= len(value) <= greatest and all([is_int(item) for item in value])
+
+
 def is_leaf(term):
     """Whether the term is a price or a plain number, which have no parts."""
     return term[0] == "price" or term[0] == "plain"
@@ -36,17 +41,24 @@ def parts_of(term):
     return term[-1]
 
 
-def check_term(term):
-    """Raise InvalidTerm if the value is not a term."""
-    waiting = [(term, 1)]
+def is_term(value):
+    """Whether the value is a term."""
+    waiting = [(value, 1)]
     many = 0
     # What is no term may be large and deep: no more of it is looked at than a term may have.
     while waiting:
         part, level = waiting.pop()
         many += 1
         if many > _MOST_TERMS or level > _MOST_LEVELS or not _has_form(part):
-            raise InvalidTerm("not a term")
+            return False
         waiting.extend([(inner, level + 1) for inner in parts_of(part)])
+    return True
+
+
+def check_term(term):
+    """Raise InvalidTerm if the value is not a term."""
+    if not is_term(term):
+        raise InvalidTerm("not a term")
 
 
 def shops_in(term):
@@ -58,7 +70,7 @@ def shops_in(term):
 def told(term, prices):
     """What the term tells of the prices."""
     check_term(term)
-    if not _are_prices(prices) or max(_all_shops(term), default=0) >= len(prices):
+    if not is_int_list(prices, 1, MOST_SHOPS) or max(_all_shops(term), default=0) >= len(prices):
         raise InvalidPrices("not a price for each shop of the term")
     return tell(term, prices)
 
@@ -90,7 +102,7 @@ def _has_form(term):
         return False
     word = term[0]
     if word == "price":
-        return len(term) == 3 and is_int_from(term[1], 0, _MOST_SHOPS - 1) and is_number(term[2])
+        return len(term) == 3 and is_int_from(term[1], 0, MOST_SHOPS - 1) and is_number(term[2])
     if word == "plain":
         return len(term) == 2 and is_number(term[1])
     if word == "rank":
@@ -100,10 +112,6 @@ def _has_form(term):
 
 def _are_parts(value):
     return isinstance(value, tuple) and 1 <= len(value) <= _MOST_PARTS
-
-
-def _are_prices(value):
-    return isinstance(value, list) and 1 <= len(value) <= _MOST_SHOPS and all([is_int(price) for price in value])
 
 
 def _all_shops(term):

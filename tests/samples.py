@@ -2,6 +2,8 @@
 
 import copy
 
+import brute
+
 GREAT = 10 ** 30
 
 
@@ -56,6 +58,46 @@ def deep_term(levels):
     for level in range(levels):
         value = (rank(1, value), least(value), most(value))[level % 3]
     return value
+
+
+def any_term(draw, levels=4, shops=6, great=5):
+    kind = draw.choice(["price", "plain", "least", "most", "rank"]) if levels > 1 else draw.choice(["price", "plain"])
+    if kind == "price":
+        return price(draw.randrange(shops), draw.randint(-great, great))
+    if kind == "plain":
+        return plain(draw.randint(-great, great))
+    parts = tuple(any_term(draw, levels - 1, shops, great) for _ in range(draw.randint(1, 3)))
+    return (kind, draw.randint(1, len(parts)), parts) if kind == "rank" else (kind, parts)
+
+
+def any_right_term(draw, levels=4, shops=6, great=5):
+    """Like any_term, but surely a term."""
+    while True:
+        term = any_term(draw, levels, shops, great)
+        if brute.is_term(term):
+            return term
+
+
+def any_rules(draw, shops, levels=3, great=5):
+    """Rules that are seldom just a price or a number."""
+    return [any_right_term(draw, draw.choice([1, levels, levels]), shops, great) for _ in range(shops)]
+
+
+def bounded(rules, low, high):
+    """Rules by which no price leaves these bounds, if the deepest rule has levels and terms left."""
+    return [least(most(rule, plain(low)), plain(high)) for rule in rules]
+
+
+def scaled(value, factor):
+    """The term, or the list of terms, with each add and number so many times as great."""
+    if isinstance(value, list):
+        return [scaled(term, factor) for term in value]
+    match value:
+        case ("price", shop, add):
+            return ("price", shop, add * factor)
+        case ("plain", number):
+            return ("plain", number * factor)
+    return value[:-1] + (tuple(scaled(part, factor) for part in value[-1]),)
 
 
 TERMS = [
@@ -114,6 +156,37 @@ NO_TERMS = [
 ]
 
 
+NO_RULES = [
+    None, True, 0, 1, "", "a", "least(a, b)", (), {}, [], (price(),), (price(), price(1)), price(), {0: price()},
+    [price()] * 7, [price()] * 1100, [[price()]], [[]], [None], [price(), None], [True], [0], [""], ["a"], [()], [{}],
+    # shops that there are not
+    [price(1)], [price(5)], [price(), price(2)], [plain(), least(price(), price(3)), price(2)],
+    [most(plain(1), least(plain(2), price(1, -GREAT)))], [price(shop) for shop in (1, 2, 3, 4, 5, 5, 5)],
+    [price(1), price(2), price(3), price(4), price(5)],
+    *[[term] for term in NO_TERMS], *[[price(1), term] for term in NO_TERMS],
+    *[value for value in ODD_VALUES if value != [price()]],
+]
+
+
+def no_prices(many):
+    """What are no prices beside so many rules."""
+    right = [0] * many
+    return [
+        *[value for value in ODD_VALUES if many != 1 or value != [0]], right + [0], right[1:], [0] * 7, [0] * 1100,
+        tuple(right), dict(enumerate(right)), "0" * many, right[1:] + [True], right[1:] + [False], right[1:] + [None],
+        [None] + right[1:], right[1:] + ["0"], right[1:] + [(0,)], right[1:] + [[0]], right[1:] + [{}], [right], [()],
+    ]
+
+
+def no_orders(many):
+    """What are no orders of so many shops."""
+    return [
+        *[value for value in ODD_VALUES if value != [] and value != [0] and value != [0] * 1100], (0,), (0, 0),
+        [many], [-1], [0, many], [0] * 999 + [many], [0] * 1001, [0] * 1100, [True], [False], [0, False], [None],
+        [0, None], ["0"], ["a"], [(0,)], [[0]], [{}], [10 ** 199], [-10 ** 199], {0: 0},
+    ]
+
+
 def replaced(value):
     """Each value that comes of the term by an odd one in the place of one of its items, at any level."""
     if not isinstance(value, tuple):
@@ -127,6 +200,35 @@ def replaced(value):
         yield value + (odd,)
     yield value[:-1]
     yield list(value)
+
+
+def assert_raised(case, error, function, *arguments):
+    """That the function raises this error, no other one, and leaves its arguments as they are."""
+    with case.subTest(arguments=repr(arguments)[:200]):
+        with case.assertRaises(error) as caught:
+            kept(case, function, *arguments)
+        case.assertIs(caught.exception.__class__, error)
+
+
+def assert_new(case, answer, function, *arguments):
+    """That no list of the answer stands there twice, or in an argument, or in a later answer."""
+    told = list(lists_in(function(*arguments)))
+    case.assertEqual(len({id(part) for part in told}), len(told))
+    for given in arguments:
+        for part in told:
+            case.assertFalse(any(part is other for other in lists_in(given)))
+    for part in told:
+        part.clear()
+    case.assertEqual(function(*arguments), answer)
+
+
+def lists_in(value):
+    """Each list and dict in the value, itself included."""
+    if isinstance(value, (list, dict)):
+        yield value
+    if isinstance(value, (list, tuple)):
+        for item in value:
+            yield from lists_in(item)
 
 
 def kept(case, function, *arguments):

@@ -8,73 +8,11 @@ import time
 import unittest
 
 import samples
+from brute import expected, is_term, sizes
 from pricespin import terms
 from pricespin.errors import InvalidPrices, InvalidTerm
 from pricespin.terms import check_term, mirror, shops_in, told
-from samples import GREAT, least, most, nested, plain, price, rank, wide
-
-
-def is_whole(value):
-    return type(value) is int
-
-
-def sizes(value):
-    """(terms, levels) of a value in the form of a term, by the words of [4]; None if it has not this form."""
-    if type(value) is not tuple:
-        return None
-    match value:
-        case ("price", shop, add) if is_whole(shop) and is_whole(add):
-            return (1, 1) if 0 <= shop <= 5 and abs(add) <= 10 ** 30 else None
-        case ("plain", number) if is_whole(number):
-            return (1, 1) if abs(number) <= 10 ** 30 else None
-        case ("least" | "most", tuple(parts)):
-            pass
-        case ("rank", k, tuple(parts)) if is_whole(k) and 1 <= k <= len(parts):
-            pass
-        case _:
-            return None
-    inner = [sizes(part) for part in parts]
-    if None in inner or not 1 <= len(parts) <= 6:
-        return None
-    return 1 + sum(size[0] for size in inner), 1 + max(size[1] for size in inner)
-
-
-def is_term(value):
-    size = sizes(value)
-    return size is not None and size[0] <= 40 and size[1] <= 6
-
-
-def kth(values, k):
-    """The k-th in ascending order, each as often as it stands there, by counting."""
-    for value in values:
-        lower = sum(other < value for other in values)
-        if lower < k <= lower + values.count(value):
-            return value
-    raise AssertionError
-
-
-def expected(term, prices):
-    match term:
-        case ("price", shop, add):
-            return prices[shop] + add
-        case ("plain", number):
-            return number
-        case ("least", parts):
-            return kth([expected(part, prices) for part in parts], 1)
-        case ("most", parts):
-            return kth([expected(part, prices) for part in parts], len(parts))
-        case ("rank", k, parts):
-            return kth([expected(part, prices) for part in parts], k)
-
-
-def any_term(draw, levels=4, shops=6, great=5):
-    kind = draw.choice(["price", "plain", "least", "most", "rank"]) if levels > 1 else draw.choice(["price", "plain"])
-    if kind == "price":
-        return price(draw.randrange(shops), draw.randint(-great, great))
-    if kind == "plain":
-        return plain(draw.randint(-great, great))
-    parts = tuple(any_term(draw, levels - 1, shops, great) for _ in range(draw.randint(1, 3)))
-    return (kind, draw.randint(1, len(parts)), parts) if kind == "rank" else (kind, parts)
+from samples import GREAT, any_term, least, most, nested, plain, price, rank, wide
 
 
 class TestInterface(unittest.TestCase):
