@@ -1,9 +1,10 @@
-"""Whether values are rules, and prices and orders that fit them."""
+"""Whether values are rules, and prices, shops, orders and logs that fit them."""
 
-from pricespin.errors import InvalidOrder, InvalidPrices, InvalidRules
-from pricespin.terms import MOST_SHOPS, is_int_from, is_int_list, is_term, shops_in
+from pricespin.errors import InvalidLog, InvalidOrder, InvalidPrices, InvalidRules, InvalidShop
+from pricespin.terms import MOST_SHOPS, is_int, is_int_from, is_int_list, is_term, shops_in
 
 _LONGEST_ORDER = 1000
+LONGEST_LOG = 200
 
 
 def check_rules(rules):
@@ -23,7 +24,13 @@ def check_market(rules, prices):
 def check_prices(prices, many):
     """Raise InvalidPrices if the value is not a list of as many prices."""
     if not is_int_list(prices, many, many):
-        raise InvalidPrices("not a price for each rule")
+        raise InvalidPrices("not a list of as many prices")
+
+
+def check_shop(shop, many):
+    """Raise InvalidShop if the value is not the number of one of so many shops."""
+    if not is_shop(shop, many):
+        raise InvalidShop("not the number of a shop")
 
 
 def check_order(order, many, fewest):
@@ -34,6 +41,14 @@ def check_order(order, many, fewest):
         raise InvalidOrder("not the number of a shop")
 
 
+def check_log(log, many):
+    """Raise InvalidLog if the value is not a log of so many shops."""
+    if not isinstance(log, list) or len(log) > LONGEST_LOG:
+        raise InvalidLog("not a list of 0 to 200 entries")
+    if not all([_is_entry(entry, many) for entry in log]):
+        raise InvalidLog("not a shop and its price")
+
+
 def is_shop(value, many):
     """Whether the value is the number of one of so many shops."""
     return is_int_from(value, 0, many - 1)
@@ -42,3 +57,7 @@ def is_shop(value, many):
 def fits(term, many):
     """Whether only the first so many shops stand in the term."""
     return all([shop < many for shop in shops_in(term)])
+
+
+def _is_entry(value, many):
+    return isinstance(value, tuple) and len(value) == 2 and is_shop(value[0], many) and is_int(value[1])

@@ -65,20 +65,31 @@ class Book:
         return None
 
 
-def book_of(rules):
-    """The book of the rules; TooMany if a rule has too many rows, or all of them too many choices."""
+def choices_of(rules, most):
+    """The rows of each rule; TooMany if a rule has too many, or all of them more choices than told."""
     choices = [rows(rule) for rule in rules]
     many = 1
     for some in choices:
         many = many * len(some)
-    if many > _MOST_CHOICES:
+    if many > most:
         raise TooMany("too many choices of one row of each rule")
-    return Book(rules, choices)
+    return choices
+
+
+def book_of(rules):
+    """The book of the rules; TooMany if a rule has too many rows, or all of them too many choices."""
+    return Book(rules, choices_of(rules, _MOST_CHOICES))
 
 
 def mirror_book(rules):
     """The book of the mirrors of the rules: by it prices rise as they fall by the rules."""
     return book_of([mirror(rule) for rule in rules])
+
+
+def bottoms(mirrored, prices):
+    """The least price to which each shop can come, by the book of the mirrors; None where there is no end."""
+    turned = mirrored.tops([-price for price in prices])
+    return [None if top is None else -top for top in turned]
 
 
 def _bound_above(prices):

@@ -1,7 +1,7 @@
 """How far prices can come, whatever the order of repricings."""
 
 from pricespin.checks import check_market, check_rules
-from pricespin.climbs import book_of, mirror_book
+from pricespin.climbs import book_of, bottoms, mirror_book
 
 
 def ends(rules, prices):
@@ -9,9 +9,7 @@ def ends(rules, prices):
     check_market(rules, prices)
     book = book_of(rules)
     mirrored = mirror_book(rules)
-    greatest = book.tops(prices)
-    turned = mirrored.tops([-price for price in prices])
-    return [(None if low is None else -low, high) for low, high in zip(turned, greatest)]
+    return list(zip(bottoms(mirrored, prices), book.tops(prices)))
 
 
 def last_round(rules, prices):

@@ -4,8 +4,9 @@ from pricespin.errors import TooMany
 from pricespin.terms import MOST_SHOPS, check_term, parts_of, shops_in
 
 _MOST_ROWS = 200
-_NO_ROW = ((), ())
-# Further from nought than any number of a term, the second one also behind the first one and an add.
+# Joined with a row, it leaves the row as it is.
+NO_ROW = ((), ())
+# Further from nought than any number of a term, also behind six of them; the second one also behind the first one.
 _LOW = -10 ** 31
 _HIGH = 10 ** 32
 
@@ -19,7 +20,7 @@ def rows(term):
 def never_above(one, other):
     """Whether the one term never tells more than the other one."""
     one_rows, other_rows = _rows_of_both(one, other)
-    return len(_rows_below(one_rows, other_rows)) == 0
+    return len(rows_below(one_rows, other_rows)) == 0
 
 
 def alike(one, other):
@@ -31,11 +32,11 @@ def alike(one, other):
 def parting(one, other):
     """Prices for which the terms tell unlike prices, None if there are none such."""
     one_rows, other_rows = _rows_of_both(one, other)
-    unlike = _rows_below(one_rows, other_rows) + _rows_below(other_rows, one_rows)
+    unlike = rows_below(one_rows, other_rows) + rows_below(other_rows, one_rows)
     if len(unlike) == 0:
         return None
     many = max(shops_in(one) + shops_in(other), default=0) + 1
-    return _test_of(unlike[0])[:many]
+    return test_of(unlike[0])[:many]
 
 
 def matters(term):
@@ -45,7 +46,7 @@ def matters(term):
 
 def tests(term):
     """Prices of six shops for each row of the term, by which alone terms are held against this one."""
-    return [_test_of(row) for row in rows(term)]
+    return [test_of(row) for row in rows(term)]
 
 
 def row_price(row, prices):
@@ -69,6 +70,35 @@ def lowest_rows(some):
     """The ascending list of those of the rows that lie above no other one."""
     unlike = sorted(set(some))
     return [row for row in unlike if not any([other != row and lies_above(row, other) for other in unlike])]
+
+
+def joined(one, other):
+    """The row that tells the greater one of what the two tell."""
+    adds = dict(one[0])
+    for shop, add in other[0]:
+        adds[shop] = max(add, adds.get(shop, add))
+    return (tuple(sorted(adds.items())), max(one[1], other[1]))
+
+
+def shifted(row, number):
+    """The row that tells more than this one by the number."""
+    adds, plain = row
+    return (tuple([(shop, add + number) for shop, add in adds]), tuple([own + number for own in plain]))
+
+
+def rows_below(some, others):
+    """Those of the other rows that lie above none of some: their tests are told less by them."""
+    return [row for row in others if not any([lies_above(row, other) for other in some])]
+
+
+def test_of(row):
+    """Prices of which this row tells less than any row that it does not lie above."""
+    adds, plain = row
+    price = plain[0] if plain else _LOW
+    prices = [_HIGH] * MOST_SHOPS
+    for shop, add in adds:
+        prices[shop] = price - add
+    return prices
 
 
 def _rows_of_both(one, other):
@@ -110,31 +140,8 @@ def _count(counts, k):
 def _joins(lists, k):
     """The k-th of what the lists tell is the least of these: one row each of k of the lists, joined."""
     if k == 0:
-        return [_NO_ROW]
+        return [NO_ROW]
     if len(lists) < k:
         return []
-    joined = [_joined(row, other) for other in _joins(lists[1:], k - 1) for row in lists[0]]
-    return joined + _joins(lists[1:], k)
-
-
-def _joined(one, other):
-    """The row that tells the greater one of what the two tell."""
-    adds = dict(one[0])
-    for shop, add in other[0]:
-        adds[shop] = max(add, adds.get(shop, add))
-    return (tuple(sorted(adds.items())), max(one[1], other[1]))
-
-
-def _rows_below(some, others):
-    """Those of the other rows that lie above none of some: their tests are told less by them."""
-    return [row for row in others if not any([lies_above(row, other) for other in some])]
-
-
-def _test_of(row):
-    """Prices of which this row tells less than any row that it does not lie above."""
-    adds, plain = row
-    price = plain[0] if plain else _LOW
-    prices = [_HIGH] * MOST_SHOPS
-    for shop, add in adds:
-        prices[shop] = price - add
-    return prices
+    with_first = [joined(row, other) for other in _joins(lists[1:], k - 1) for row in lists[0]]
+    return with_first + _joins(lists[1:], k)

@@ -96,6 +96,16 @@ def mirror(term):
     return _turned(term)
 
 
+def raised(term, number):
+    """The term with each add and each plain number greater by the number, for a term that is known to be right."""
+    word = term[0]
+    if word == "price":
+        return ("price", term[1], term[2] + number)
+    if word == "plain":
+        return ("plain", term[1] + number)
+    return term[:-1] + (tuple([raised(part, number) for part in term[-1]]),)
+
+
 def _has_form(term):
     """Whether the value is a term, if its parts are terms."""
     if not isinstance(term, tuple) or len(term) == 0:

@@ -5,7 +5,7 @@ from pricespin.terms import check_term, is_leaf
 
 SHOPS = "abcdef"
 _LETTERS = "abcdefghijklmnopqrstuvwxyz"
-_DIGITS = "0123456789"
+DIGITS = "0123456789"
 _MOST_DIGITS = 31
 
 
@@ -58,7 +58,7 @@ class Reader:
     def number(self):
         """Read a number without a sign."""
         self.peek()
-        digits = self.run(_DIGITS)
+        digits = self.run(DIGITS)
         if digits == "":
             raise InvalidText(self.at)
         if digits[0] == "0":

@@ -168,3 +168,63 @@ def lots_of(many):
 
 def holding(rules, shops):
     return [("price", shop, 0) if shop in shops else rule for shop, rule in enumerate(rules)]
+
+
+def is_quiet(rules, prices):
+    return all(expected(rule, prices) == price for rule, price in zip(rules, prices))
+
+
+def grid(shops, reach):
+    """All prices of so many shops from -reach to reach."""
+    return [list(prices) for prices in itertools.product(range(-reach, reach + 1), repeat=shops)]
+
+
+def lots_that_lead_back(found, rules):
+    """The sets of prices among those found that lead to one another, one for each."""
+    steps = {prices: [tuple(behind(rules, prices, [shop])) for shop in range(len(rules))] for prices in found}
+    order, passed = [], set()
+    for root in found:
+        waiting = [(root, False)]
+        while waiting:
+            prices, done = waiting.pop()
+            if done:
+                order.append(prices)
+            elif prices not in passed:
+                passed.add(prices)
+                waiting.append((prices, True))
+                waiting.extend((new, False) for new in steps[prices])
+    sources = {prices: [] for prices in found}
+    for prices in found:
+        for new in steps[prices]:
+            sources[new].append(prices)
+    lots, taken = [], set()
+    for root in reversed(order):
+        lot, waiting = set(), [root]
+        while waiting:
+            prices = waiting.pop()
+            if prices not in taken:
+                taken.add(prices)
+                lot.add(prices)
+                waiting.extend(sources[prices])
+        if lot:
+            lots.append(lot)
+    return lots
+
+
+def surely_at(rules, prices):
+    """The quiet prices at which all fair orders end, or None; there must be an end of what can be come to."""
+    found = come_to(rules, prices)
+    for lot in lots_that_lead_back(found, rules):
+        # Each shop is repriced again and again and they still go round.
+        if len(lot) > 1 and all(any(tuple(behind(rules, present, [shop])) in lot for present in lot)
+                                for shop in range(len(rules))):
+            return None
+    quiet = [list(present) for present in found if is_quiet(rules, present)]
+    return quiet[0] if len(quiet) == 1 else None
+
+
+def term_of(some):
+    """The term of a list of rows."""
+    rows = [("most", tuple([("price", *pair) for pair in adds] + [("plain", number) for number in plain]))
+            for adds, plain in some]
+    return rows[0] if len(rows) == 1 else ("least", tuple(rows))

@@ -83,6 +83,22 @@ def any_rules(draw, shops, levels=3, great=5):
     return [any_right_term(draw, draw.choice([1, levels, levels]), shops, great) for _ in range(shops)]
 
 
+def level_rules(draw, shops, great=3):
+    """Rules by which rings of adds mostly come to 0, so that there are many quiet prices."""
+    heights = [draw.randint(-great, great) for _ in range(shops)]
+
+    def part(shop, levels):
+        if levels == 1 or draw.random() < 0.2:
+            other = draw.randrange(shops)
+            if draw.random() < 0.1:
+                return plain(draw.randint(-great, great))
+            return price(other, heights[shop] - heights[other] + draw.choice([0, 0, 0, 0, 0, 0, -1, 1]))
+        parts = [part(shop, levels - 1) for _ in range(draw.randint(2, 3))]
+        return draw.choice([least(*parts), most(*parts), rank(draw.randint(1, len(parts)), *parts)])
+
+    return [part(shop, draw.choice([1, 2, 3])) for shop in range(shops)]
+
+
 def bounded(rules, low, high):
     """Rules by which no price leaves these bounds, if the deepest rule has levels and terms left."""
     return [least(most(rule, plain(low)), plain(high)) for rule in rules]
@@ -184,6 +200,27 @@ def no_orders(many):
         *[value for value in ODD_VALUES if value != [] and value != [0] and value != [0] * 1100], (0,), (0, 0),
         [many], [-1], [0, many], [0] * 999 + [many], [0] * 1001, [0] * 1100, [True], [False], [0, False], [None],
         [0, None], ["0"], ["a"], [(0,)], [[0]], [{}], [10 ** 199], [-10 ** 199], {0: 0},
+    ]
+
+
+def no_shops(many):
+    """What are no numbers of so many shops."""
+    odd = [value for value in ODD_VALUES if value != 6]
+    return [*odd, many, -1, many + 1, 7, 10 ** 199, -10 ** 199, "0", (0,), b""]
+
+
+def no_logs(many):
+    """What are no logs of so many shops."""
+    right = (0, 5)
+    wrong = [
+        (0,), (0, 5, 5), (many, 5), (-1, 5), (10 ** 199, 5), (True, 5), (False, 5), (None, 5), ("a", 5), ("0", 5),
+        ([0], 5), ((0,), 5), ({}, 5), (0, None), (0, True), (0, False), (0, "5"), (0, [5]), (0, (5,)), (0, {}), [0, 5],
+        {0: 5}, (), "a5", (right, right),
+    ]
+    return [
+        *[value for value in ODD_VALUES if value != []], (right,), {0: right}, {right: right}, [right] * 201,
+        [right] * 1100, [[right]], *[[entry] for entry in wrong], *[[right, entry] for entry in wrong],
+        *[[right] * 199 + [entry] for entry in wrong], *[[value] for value in ODD_VALUES],
     ]
 
 

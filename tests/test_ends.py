@@ -8,7 +8,7 @@ import unittest
 
 import brute
 import samples
-from books import BEYOND, BOOK, CAPPED, JUST, PAIR, ROWS_BEYOND, SIX, SLOW, TEN, TWENTY, mirrors, read_rules
+from books import BEYOND, BOOK, CAPPED, JUST, ONE_MORE, PAIR, ROWS_BEYOND, SIX, SLOW, TEN, TWENTY, mirrors, read_rules
 from brute import behind, fall, rise
 from pricespin import ends as module
 from pricespin.ends import endless, endless_round, ends, last_round
@@ -72,6 +72,8 @@ class TestErrors(unittest.TestCase):
         self.assert_too_many(JUST)
         self.assertEqual(told_choices(BEYOND), (20250, 6 ** 3))
         self.assert_too_many(BEYOND, ends, last_round, endless, endless_round)
+        self.assertEqual(told_choices(ONE_MORE)[0], 20001)
+        self.assert_too_many(ONE_MORE, *WITH_PRICES, *RULES_ALONE)
         self.assert_too_many(read_rules(TWENTY, TWENTY, TEN, SIX, "a", "a"), *WITH_PRICES, *RULES_ALONE)
 
     def test_too_many_choices_of_the_mirrors(self):
